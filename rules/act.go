@@ -32,7 +32,7 @@ func mine(t *turn, u api.Unit) api.Unit {
 	if !cellOf(u).Adjacent(goal) {
 		return t.step(u, goal.Adjacent)
 	}
-	u.Load = min(*ground, api.MaxLoad)
+	u.Load = min(*ground, kindOf(u.Kind).load)
 	*ground -= u.Load
 	return u
 }

@@ -81,3 +81,12 @@ func (g *Game) add(owner, kind int, c land.Cell) {
 func cellOf(u api.Unit) land.Cell {
 	return land.Cell{X: u.X, Y: u.Y}
 }
+
+// cellsOf: the Ids of people by the cells where they stand.
+func cellsOf(people []api.Unit) map[land.Cell]int {
+	held := map[land.Cell]int{}
+	for _, u := range people {
+		held[cellOf(u)] = u.Id
+	}
+	return held
+}

@@ -7,16 +7,17 @@ import (
 
 // kind of people: what it is made of and what it can do.
 type kind struct {
-	life, cost int
-	raised     bool                 // a base can build it
-	skills     [api.Build + 1]skill // by orders; what it can't do has no functions
+	life, cost, load int                  // load: of ore, at most
+	raised           bool                 // a base can build it
+	skills           [api.Build + 1]skill // by orders; what it can't do has no functions
 }
 
 // skill: how a kind deals with one sort of order.
 type skill struct {
-	takes func(g *Game, u api.Unit, c api.Command) bool // whether the command can be an order
-	keeps func(c api.Command) api.Command               // the command with noughts for what the order does not use
-	acts  func(t *turn, u api.Unit) api.Unit            // what is done in a turn: how the one who did it is then
+	takes  func(g *Game, u api.Unit, c api.Command) bool // whether the command can be an order
+	stands func(g *Game, u api.Unit, c api.Command) bool // whether the order can be one's that was given earlier: what it is about may be gone
+	keeps  func(c api.Command) api.Command               // the command with noughts for what the order does not use
+	acts   func(t *turn, u api.Unit) api.Unit            // what is done in a turn: how the one who did it is then
 }
 
 // kindOf tells a kind by its number; one that is not there has no life and can do nothing.
@@ -25,19 +26,19 @@ func kindOf(number int) kind {
 	switch number {
 	case api.Base:
 		k.life = 40
-		k.skills[api.Build] = skill{takes: takesBuild, keeps: keepsKind, acts: build}
+		k.skills[api.Build] = skill{takes: takesBuild, stands: takesBuild, keeps: keepsKind, acts: build}
 	case api.Worker:
-		k.life, k.cost, k.raised = 8, 5, true
-		k.skills[api.Move] = skill{takes: takesMove, keeps: keepsCell, acts: move}
-		k.skills[api.Mine] = skill{takes: takesMine, keeps: keepsCell, acts: mine}
+		k.life, k.cost, k.load, k.raised = 8, 5, api.MaxLoad, true
+		k.skills[api.Move] = skill{takes: takesMove, stands: takesMove, keeps: keepsCell, acts: move}
+		k.skills[api.Mine] = skill{takes: takesMine, stands: standsMine, keeps: keepsCell, acts: mine}
 	case api.Fighter:
 		k.life, k.cost, k.raised = 12, 8, true
-		k.skills[api.Move] = skill{takes: takesMove, keeps: keepsCell, acts: move}
-		k.skills[api.Hit] = skill{takes: takesHit, keeps: keepsTarget, acts: hit}
+		k.skills[api.Move] = skill{takes: takesMove, stands: takesMove, keeps: keepsCell, acts: move}
+		k.skills[api.Hit] = skill{takes: takesHit, stands: standsHit, keeps: keepsTarget, acts: hit}
 	default:
 		return k
 	}
-	k.skills[api.None] = skill{takes: takesAny, keeps: keepsNothing, acts: rest}
+	k.skills[api.None] = skill{takes: takesAny, stands: takesAny, keeps: keepsNothing, acts: rest}
 	return k
 }
 
@@ -69,6 +70,19 @@ func takesHit(g *Game, u api.Unit, c api.Command) bool {
 
 func takesBuild(g *Game, u api.Unit, c api.Command) bool {
 	return kindOf(c.X).raised
+}
+
+// standsMine: a cell whose ore is gone is ground.
+func standsMine(g *Game, u api.Unit, c api.Command) bool {
+	return takesMove(g, u, c)
+}
+
+// standsHit: a target that is gone was somebody once. (It is not one's own Id: who has that is there.)
+func standsHit(g *Game, u api.Unit, c api.Command) bool {
+	if _, here := g.find(c.Target); here {
+		return takesHit(g, u, c)
+	}
+	return c.Target >= 1 && c.Target < g.Next
 }
 
 func keepsNothing(c api.Command) api.Command {

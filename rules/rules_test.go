@@ -259,3 +259,51 @@ func TestPlayLeavesTheOldGame(t *testing.T) {
 		}
 	}
 }
+
+// MayBe of games that differ from a right one in one thing. (What a text can tell is tested by Read.)
+func TestMayBe(t *testing.T) {
+	fresh := func() Game {
+		g := with(drawn(t, "A.9#.......B"), api.Unit{Kind: api.Worker, X: 5})
+		return with(g, api.Unit{Owner: 1, Kind: api.Fighter, X: 6})
+	}
+	for _, c := range []struct {
+		name   string
+		may    bool
+		change func(g *Game)
+	}{
+		{"as it is", true, func(g *Game) {}},
+		{"a cell", false, func(g *Game) { g.Board[9][9] = 11 }},
+		{"next Id", false, func(g *Game) { g.Next = 4 }},
+		{"no Id", false, func(g *Game) { g.People[0].Id = 0 }},
+		{"an Id twice", false, func(g *Game) { g.People[1].Id = 1 }},
+		{"two on a cell", false, func(g *Game) { g.People[3].X = 5 }},
+		{"on ore", false, func(g *Game) { g.People[3].X = 2 }},
+		{"on rock", false, func(g *Game) { g.People[3].X = 3 }},
+		{"off the board", false, func(g *Game) { g.People[3].Y = 12 }},
+		{"owner", false, func(g *Game) { g.People[3].Owner = 2 }},
+		{"kind", false, func(g *Game) { g.People[3].Kind = 4 }},
+		{"no life", false, func(g *Game) { g.People[3].Life = 0 }},
+		{"too much life", false, func(g *Game) { g.People[3].Life = 13 }},
+		{"a fighter's load", false, func(g *Game) { g.People[3].Load = 1 }},
+		{"a base's load", false, func(g *Game) { g.People[0].Load = 1 }},
+		{"a worker's load", true, func(g *Game) { g.People[2].Load = 5 }},
+		{"too much load", false, func(g *Game) { g.People[2].Load = 6 }},
+		{"an order that uses it", true, func(g *Game) { g.People[2].What, g.People[2].ToX = api.Mine, 2 }},
+		{"an order that does not", false, func(g *Game) { g.People[2].What, g.People[2].Target = api.Mine, 2 }},
+		{"ore that is gone", true, func(g *Game) { g.People[2].What, g.People[2].ToX = api.Mine, 1 }},
+		{"ore that never was", false, func(g *Game) { g.People[2].What, g.People[2].ToX = api.Mine, 3 }},
+		{"a target that is gone", true, func(g *Game) { g.People[3].What, g.People[3].Target, g.Next = api.Hit, 5, 6 }},
+		{"a target to come", false, func(g *Game) { g.People[3].What, g.People[3].Target = api.Hit, 5 }},
+		{"no target", false, func(g *Game) { g.People[3].What = api.Hit }},
+		{"one's own Id", false, func(g *Game) { g.People[3].What, g.People[3].Target = api.Hit, 4 }},
+		{"one base", true, func(g *Game) { g.People = g.People[1:] }},
+		{"no base", false, func(g *Game) { g.People = g.People[2:] }},
+		{"two bases of one player", false, func(g *Game) { g.People[1].Owner = 0 }},
+	} {
+		g := fresh()
+		c.change(&g)
+		if g.MayBe() != c.may {
+			t.Errorf("P4: %s: %v", c.name, g.MayBe())
+		}
+	}
+}

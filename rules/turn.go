@@ -43,11 +43,8 @@ func places(list []api.Command) []int {
 
 // begin a turn with a list of people that no other game has.
 func begin(g Game) *turn {
-	t := &turn{game: g, held: map[land.Cell]int{}, ways: land.NewWays()}
+	t := &turn{game: g, held: cellsOf(g.People), ways: land.NewWays()}
 	t.game.People = slices.Clone(g.People)
-	for _, u := range g.People {
-		t.held[cellOf(u)] = u.Id
-	}
 	return t
 }
 

@@ -14,12 +14,13 @@ import (
 // model: the rules once more, as plainly and slowly as can be: no maps, and ways by distances that are worked out backwards from their ends.
 type model struct {
 	state api.State
+	next  int
 	board api.Board
 	all   []*api.Unit // with those that are gone: they have no life
 }
 
 func modelOf(text string) *model {
-	m := &model{state: api.State{Stocks: [2]int{10, 10}}, all: make([]*api.Unit, 2)}
+	m := &model{state: api.State{Stocks: [2]int{10, 10}}, next: 3, all: make([]*api.Unit, 2)}
 	for y, line := range strings.Fields(text) {
 		for x, sign := range line {
 			switch {
@@ -47,10 +48,18 @@ func (m *model) living() []api.Unit {
 }
 
 func (m *model) get(id int) *api.Unit {
-	if id >= 1 && id <= len(m.all) && m.all[id-1].Life > 0 {
-		return m.all[id-1]
+	for _, u := range m.all {
+		if u.Id == id && u.Life > 0 {
+			return u
+		}
 	}
 	return nil
+}
+
+// home: a player's base, which must be there.
+func (m *model) home(owner int) *api.Unit {
+	place := slices.IndexFunc(m.all, func(u *api.Unit) bool { return u.Owner == owner && u.Kind == 1 && u.Life > 0 })
+	return m.all[place]
 }
 
 func (m *model) ground(x, y int) int {
@@ -119,7 +128,7 @@ func (m *model) step(u *api.Unit, x, y, touch int) {
 
 func (m *model) take(player int, c api.Command) bool {
 	u := m.get(c.Unit)
-	if m.state.Winner != 0 || u == nil || u.Owner != player {
+	if m.state.Winner != 0 || m.state.Turn == 1e9 || u == nil || u.Owner != player {
 		return false
 	}
 	order := api.Command{What: c.What, X: c.X, Y: c.Y}
@@ -155,10 +164,10 @@ func (m *model) act(u *api.Unit) {
 			m.step(u, u.ToX, u.ToY, 0)
 		}
 	case 2:
-		home, ore := m.all[u.Owner], &m.board[u.ToY][u.ToX]
+		home, ore := m.home(u.Owner), &m.board[u.ToY][u.ToX]
 		switch {
 		case u.Load > 0 && beside(u.X, u.Y, home.X, home.Y):
-			m.state.Stocks[u.Owner] += u.Load
+			m.state.Stocks[u.Owner] = min(m.state.Stocks[u.Owner]+u.Load, 1e9)
 			u.Load = 0
 		case u.Load > 0:
 			m.step(u, home.X, home.Y, 1)
@@ -198,8 +207,9 @@ func (m *model) build(u *api.Unit) bool {
 		cost, life = 8, 12
 	}
 	for _, n := range around(u.X, u.Y) {
-		if m.free(n[0], n[1]) && m.state.Stocks[u.Owner] >= cost && len(m.living()) < 100 {
-			m.all = append(m.all, &api.Unit{Id: len(m.all) + 1, Owner: u.Owner, Kind: u.ToX, X: n[0], Y: n[1], Life: life})
+		if m.free(n[0], n[1]) && m.state.Stocks[u.Owner] >= cost && len(m.living()) < 100 && m.next < 1e9 {
+			m.all = append(m.all, &api.Unit{Id: m.next, Owner: u.Owner, Kind: u.ToX, X: n[0], Y: n[1], Life: life})
+			m.next++
 			m.state.Stocks[u.Owner] -= cost
 			return true
 		}
@@ -215,6 +225,9 @@ func (m *model) play(lists [2]commands) [2][]int {
 				refused[player] = append(refused[player], place)
 			}
 		}
+	}
+	if m.state.Turn == 1e9 {
+		return refused
 	}
 	for _, u := range m.living() {
 		if now := m.get(u.Id); now != nil && m.state.Winner == 0 {
@@ -301,6 +314,9 @@ func (a alongside) play(first, second commands) {
 	}
 	if got := told(a.game); !reflect.DeepEqual(got, all{a.m.state, a.m.living(), a.m.board}) {
 		a.t.Fatalf("P3: turn %d: %v, %v: %+v, want %+v, %+v, %v", a.m.state.Turn, first, second, got, a.m.state, a.m.living(), a.m.board)
+	}
+	if got, want := a.game.Tell(), a.m.figures().text(); got != want {
+		a.t.Fatalf("P4: turn %d: %v, %v: told %q, want %q", a.m.state.Turn, first, second, got, want)
 	}
 }
 

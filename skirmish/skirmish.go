@@ -5,6 +5,7 @@ import (
 	"slices"
 
 	"skirmish/api"
+	"skirmish/content"
 	"skirmish/rules"
 )
 
@@ -55,10 +56,18 @@ func (g *Game) Cells() api.Board {
 }
 
 // Tell writes a state (P4).
-func (g *Game) Tell() string { return "" }
+func (g *Game) Tell() string {
+	return content.TellState(g.there().now)
+}
 
 // Read reads one (P4).
-func Read(text string) (*Game, api.Errno) { return nil, api.OK }
+func Read(text string) (*Game, api.Errno) {
+	now, right := content.ReadState(text)
+	if !right {
+		return nil, api.ErrForm
+	}
+	return &Game{now: now}, api.OK
+}
 
 // Record of a game.
 type Record struct{}
