@@ -1,4 +1,4 @@
-// Package content: what stands in frames: the bytes of a state.
+// Package content: what stands in frames: a state and a turn in bytes.
 package content
 
 import (

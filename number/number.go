@@ -40,9 +40,19 @@ func (r *Reader) Next() int {
 	return n
 }
 
+// Right tells whether all numbers so far were right.
+func (r *Reader) Right() bool {
+	return !r.wrong
+}
+
+// Rest tells what is behind the numbers so far.
+func (r *Reader) Rest() string {
+	return r.rest
+}
+
 // Done tells whether all numbers were right and nothing is behind them.
 func (r *Reader) Done() bool {
-	return !r.wrong && r.rest == ""
+	return r.Right() && r.rest == ""
 }
 
 // first: the number that a text begins with, and how many bytes it has: none, if it is wrong.

@@ -50,8 +50,8 @@ func TestWrongNumbers(t *testing.T) {
 func TestReader(t *testing.T) {
 	r := NewReader("\x07\x80\x01\x00")
 	for i, want := range []int{7, 128, 0} {
-		if r.Done() {
-			t.Errorf("done ahead of number %d", i)
+		if r.Done() || !r.Right() || r.Rest() != []string{"\x07\x80\x01\x00", "\x80\x01\x00", "\x00"}[i] {
+			t.Errorf("ahead of number %d: done %v, right %v, rest %q", i, r.Done(), r.Right(), r.Rest())
 		}
 		if n := r.Next(); n != want {
 			t.Errorf("number %d is %d, want %d", i, n, want)
@@ -60,8 +60,8 @@ func TestReader(t *testing.T) {
 	if !r.Done() {
 		t.Error("not done at the end")
 	}
-	if n := r.Next(); n != 0 || r.Done() {
-		t.Errorf("behind the end: %d, done %v", n, r.Done())
+	if n := r.Next(); n != 0 || r.Done() || r.Right() || r.Rest() != "" {
+		t.Errorf("behind the end: %d, done %v, right %v, rest %q", n, r.Done(), r.Right(), r.Rest())
 	}
 }
 
@@ -69,8 +69,8 @@ func TestReader(t *testing.T) {
 func TestReaderBehindAWrongNumber(t *testing.T) {
 	r := NewReader("\x01\x80\x00\x05\x06")
 	for i, want := range []int{1, 0, 0, 0, 0, 0} {
-		if n := r.Next(); n != want || r.Done() {
-			t.Errorf("number %d is %d, want %d, done %v", i, n, want, r.Done())
+		if n := r.Next(); n != want || r.Done() || r.Right() != (i == 0) || r.Rest() != "\x80\x00\x05\x06" {
+			t.Errorf("number %d is %d, want %d, done %v, right %v, rest %q", i, n, want, r.Done(), r.Right(), r.Rest())
 		}
 	}
 }

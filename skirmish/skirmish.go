@@ -68,32 +68,3 @@ func Read(text string) (*Game, api.Errno) {
 	}
 	return &Game{now: now}, api.OK
 }
-
-// Record of a game.
-type Record struct{}
-
-// Begin begins a record (P6).
-func Begin(text string) (*Record, api.Errno) { return nil, api.OK }
-
-// Open finds one (P9).
-func Open(files []api.File) (*Record, api.Errno) { return nil, api.OK }
-
-// Game tells the game (P6).
-func (r *Record) Game() *Game { return nil }
-
-// Play plays a turn (P6).
-func (r *Record) Play(first []api.Command, second []api.Command) ([][]int, api.Errno) {
-	return nil, api.OK
-}
-
-// Sync makes all turns safe (P6).
-func (r *Record) Sync() int { return 0 }
-
-// Fold makes the log a state alone (P6).
-func (r *Record) Fold() {}
-
-// Files tells the files (P7).
-func (r *Record) Files() []api.File { return nil }
-
-// Steps tells what was done with them (P7).
-func (r *Record) Steps() []api.Step { return nil }
